@@ -1,0 +1,1 @@
+"""Idealroom: sums of multiples of polynomials, found within a room."""

@@ -59,11 +59,23 @@ class Fractions(Field):
             divisor = -divisor
         return (top // divisor, bottom // divisor)
 
+    # Sums and products look for shared divisors where alone they can be, among lesser numbers: to find them in the
+    # whole of great tops and bottoms takes long. Whole numbers have none to be looked for.
+
     def plus(self, a, b):
-        return self.made(a[0] * b[1] + b[0] * a[1], a[1] * b[1])
+        if a[1] == 1 and b[1] == 1:
+            return (a[0] + b[0], 1)
+        shared = shared_divisor(a[1], b[1])
+        top = a[0] * (b[1] // shared) + b[0] * (a[1] // shared)
+        further = shared_divisor(abs(top), shared)
+        return (top // further, a[1] // shared * (b[1] // further))
 
     def times(self, a, b):
-        return self.made(a[0] * b[0], a[1] * b[1])
+        if a[1] == 1 and b[1] == 1:
+            return (a[0] * b[0], 1)
+        one = shared_divisor(abs(a[0]), b[1])
+        other = shared_divisor(abs(b[0]), a[1])
+        return (a[0] // one * (b[0] // other), a[1] // other * (b[1] // one))
 
     def against(self, a):
         return (-a[0], a[1])

@@ -1,0 +1,32 @@
+"""Rings: how many unknowns there are, their field and the order of their terms."""
+
+from idealroom.errors import NoRing
+
+LETTERS = "xyzt"
+
+
+class Ring:
+    """A ring of one to four unknowns; its polynomials are dicts from terms to numbers."""
+
+    def __init__(self, many, field, order):
+        if many < 1 or many > len(LETTERS) or not order.fits(many):
+            raise NoRing("a ring has 1 to 4 unknowns, and an order for so many")
+        self.many = many
+        self.field = field
+        self.order = order
+
+    def letters(self):
+        return LETTERS[:self.many]
+
+    def unit(self):
+        """The term 1."""
+        return (0,) * self.many
+
+    def unknown(self, at):
+        term = tuple([1 if place == at else 0 for place in range(self.many)])
+        return {term: self.field.one()}
+
+    def constant(self, number):
+        if number == self.field.nought():
+            return {}
+        return {self.unit(): number}

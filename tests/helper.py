@@ -156,6 +156,120 @@ def drawn_row(rng, ring, length, most_terms=3, bounds=None):
     return [drawn(rng, ring, most_terms, bounds) for _ in range(length)]
 
 
+# Division, bases and rooms, step by step as the points tell them
+
+def divided_plainly(ring, f, row):
+    """Point 14."""
+    left, rest, quotients = loose(f), {}, [{} for _ in row]
+    while left:
+        term = lead(ring, left)
+        fits = [at for at, g in enumerate(row) if g and divides(lead(ring, g), term)]
+        if not fits:
+            rest[term] = left.pop(term)
+            continue
+        g = loose(row[fits[0]])
+        over = less(term, lead(ring, g))
+        number = left[term] * inverse(ring.field, g[lead(ring, g)])
+        quotients[fits[0]][over] = quotients[fits[0]].get(over, 0) + number
+        left = loose(added(ring, tight(ring, left), multiplied(ring, tight(ring, {over: 1}), row[fits[0]]), -number))
+    return [tight(ring, quotient) for quotient in quotients], tight(ring, rest)
+
+
+def rest_of(ring, f, row):
+    return divided_plainly(ring, f, row)[1]
+
+
+def crossed_plainly(ring, f, g):
+    one, other = lead(ring, f), lead(ring, g)
+    met = joined(one, other)
+    f, g = made_monic(ring, f), made_monic(ring, g)
+    return added(ring, multiplied(ring, tight(ring, {less(met, one): 1}), f),
+                 multiplied(ring, tight(ring, {less(met, other): 1}), g), -1)
+
+
+def is_base_plainly(ring, row):
+    """Point 18: all crossed pairs, none let by."""
+    row = [f for f in row if f]
+    return not any(rest_of(ring, crossed_plainly(ring, f, g), row) for f, g in itertools.combinations(row, 2))
+
+
+def any_base(ring, row):
+    """A base of the row's sums of multiples, far from the least: the row and what its pairs leave over."""
+    base = [made_monic(ring, f) for f in row if f]
+    due = list(itertools.combinations(range(len(base)), 2))
+    while due:
+        i, j = due.pop(0)
+        rest = rest_of(ring, crossed_plainly(ring, base[i], base[j]), base)
+        if rest:
+            due.extend((at, len(base)) for at in range(len(base)))
+            base.append(made_monic(ring, rest))
+    return base
+
+
+def thinned_plainly(ring, base):
+    """The least base of a base: what another one's first term goes into is left out, and the others brought down."""
+    lean = [made_monic(ring, f) for f in base if f]
+    at = 0
+    while at < len(lean):
+        others = lean[:at] + lean[at + 1:]
+        if any(divides(lead(ring, g), lead(ring, lean[at])) for g in others):
+            lean = others
+        else:
+            at += 1
+    least = [made_monic(ring, rest_of(ring, f, lean[:at] + lean[at + 1:])) for at, f in enumerate(lean)]
+    return sorted(least, key=lambda f: rank(ring.order, lead(ring, f)), reverse=True)
+
+
+def least_base_plainly(ring, row):
+    return thinned_plainly(ring, any_base(ring, row))
+
+
+def in_box(f, box):
+    return all(power <= bound for term in f for power, bound in zip(term, box))
+
+
+def shifts_in_box(ring, told, box):
+    """All tuples (place, term) such that the term times the polynomial there is in the box."""
+    return [(at, term) for at, f in enumerate(told) if f for term in terms_up_to(box)
+            if in_box({more(term, part): 1 for part in f}, box)]
+
+
+def room_plainly(ring, told, box):
+    """The polynomials of point 21: the shifts, each written as numbers at the box's terms, cleared column by column."""
+    terms = rising(ring, terms_up_to(box))[::-1]
+    rows = []
+    for at, over in shifts_in_box(ring, told, box):
+        shift = loose(multiplied(ring, tight(ring, {over: 1}), told[at]))
+        rows.append([shift.get(term, 0) for term in terms])
+    prime, done = ring.field.prime, 0
+    for column in range(len(terms)):
+        found = [at for at in range(done, len(rows)) if rows[at][column] != 0]
+        if not found:
+            continue
+        rows[done], rows[found[0]] = rows[found[0]], rows[done]
+        turned = inverse(ring.field, rows[done][column])
+        rows[done] = [number * turned % prime if prime else number * turned for number in rows[done]]
+        for at in range(len(rows)):
+            if at != done and rows[at][column] != 0:
+                number = rows[at][column]
+                rows[at] = [a - number * b for a, b in zip(rows[at], rows[done])]
+                if prime:
+                    rows[at] = [a % prime for a in rows[at]]
+        done += 1
+    return [tight(ring, dict(zip(terms, row))) for row in rows[:done]]
+
+
+def bare_plainly(ring, told, box):
+    polys = room_plainly(ring, told, box)
+    return [f for f in polys if not any(g != f and divides(lead(ring, g), lead(ring, f)) for g in polys)]
+
+
+def is_closed_plainly(ring, told, box):
+    """Point 23's own words: the room's first terms go into those of all sums, which a base's first terms tell."""
+    polys = room_plainly(ring, told, box)
+    return all(any(divides(lead(ring, g), lead(ring, f)) for g in polys) for f in any_base(ring, told))
+
+
 # Looks at what is told
 
 def assert_poly(test, ring, f):

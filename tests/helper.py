@@ -6,11 +6,13 @@ taken by their rests), and noughts may stand in them until they are tightened.
 
 import copy
 import itertools
+import random
 from fractions import Fraction
 
 from idealroom.fields import Fractions, Rests
 from idealroom.orders import Degrees, Order, Tails, Weights
 from idealroom.rings import Ring
+from idealroom.texts import read
 
 
 def fields():
@@ -268,6 +270,32 @@ def is_closed_plainly(ring, told, box):
     """Point 23's own words: the room's first terms go into those of all sums, which a base's first terms tell."""
     polys = room_plainly(ring, told, box)
     return all(any(divides(lead(ring, g), lead(ring, f)) for g in polys) for f in any_base(ring, told))
+
+
+def texts(ring, *written):
+    return [read(ring, text) for text in written]
+
+
+def small_box(rng, many):
+    return [rng.randint(1, {1: 6, 2: 4, 3: 2, 4: 1}[many]) for _ in range(many)]
+
+
+def drawn_cases(seed, manys=(1, 2, 3), most=3):
+    """Tuples (ring, told, box), over all rings; the told ones are not always in the box."""
+    rng = random.Random(seed)
+    for ring in rings(manys):
+        box = small_box(rng, ring.many)
+        told = drawn_row(rng, ring, rng.randint(0, most), 3, [min(2, bound + 1) for bound in box])
+        yield ring, told, box
+
+
+def closed_cases(seed, manys=(1, 2, 3), most=3):
+    """Those of the drawn cases that are closed, with their least bases; the others in a greater box, if it helps."""
+    for ring, told, box in drawn_cases(seed, manys, most):
+        for greater in (box, [{1: 9, 2: 5, 3: 3, 4: 2}[ring.many]] * ring.many):
+            if is_closed_plainly(ring, told, greater):
+                yield ring, told, greater, least_base_plainly(ring, told)
+                break
 
 
 # Looks at what is told

@@ -6,8 +6,8 @@ import unittest
 from fractions import Fraction
 
 from helper import (
-    any_base, assert_poly, crossed_plainly, divides, drawn, drawn_row, is_base_plainly, joined, lead, multiplied, orders,
-    rank, refused_as_it_was, rest_of, rings, tight, told_as_own)
+    any_base, assert_poly, crossed_plainly, divides, drawn, drawn_row, is_base_plainly, joined, lead, multiplied,
+    orders, rank, refused_as_it_was, rest_of, rings, texts, tight, told_as_own)
 from idealroom.crossing import crossed, is_base, pairs
 from idealroom.errors import NoLead
 from idealroom.fields import Fractions, Rests
@@ -19,10 +19,6 @@ from idealroom.texts import read
 LETTERS = Ring(2, Fractions(), Order())
 DEGREES = Ring(2, Fractions(), Degrees())
 SPACE = Ring(3, Rests(7), Degrees())
-
-
-def texts(ring, *written):
-    return [read(ring, text) for text in written]
 
 
 def pairs_plainly(ring, row):

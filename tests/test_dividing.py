@@ -6,7 +6,7 @@ from fractions import Fraction
 
 from helper import (
     added, assert_poly, assert_polys, divided_plainly, divides, drawn, drawn_row, lead, more, multiplied, rings,
-    summed_up, tight, told_as_own)
+    summed_up, texts, tight, told_as_own)
 from idealroom.dividing import brought_down, divided
 from idealroom.fields import Fractions, Rests
 from idealroom.orders import Degrees, Order, Tails, Weights
@@ -16,10 +16,6 @@ from idealroom.texts import read
 
 LETTERS = Ring(2, Fractions(), Order())
 DEGREES = Ring(2, Fractions(), Degrees())
-
-
-def texts(ring, *written):
-    return [read(ring, text) for text in written]
 
 
 class Divided(unittest.TestCase):

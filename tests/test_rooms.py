@@ -5,8 +5,9 @@ import unittest
 from fractions import Fraction
 
 from helper import (
-    assert_polys, bare_plainly, divides, drawn, drawn_row, in_box, is_closed_plainly, lead, least_base_plainly, made_monic,
-    more, multiplied, orders, rank, refused_as_it_was, rings, room_plainly, shifts_in_box, summed_up, tight, told_as_own)
+    assert_polys, bare_plainly, divides, drawn, drawn_cases, drawn_row, in_box, is_closed_plainly, lead,
+    least_base_plainly, made_monic, more, multiplied, orders, rank, refused_as_it_was, rings, room_plainly,
+    shifts_in_box, summed_up, texts, tight, told_as_own)
 from idealroom.errors import NoBox
 from idealroom.fields import Fractions, Rests
 from idealroom.orders import Degrees, Order, Tails
@@ -17,22 +18,6 @@ from idealroom.texts import read
 LETTERS = Ring(2, Fractions(), Order())
 DEGREES = Ring(2, Fractions(), Degrees())
 ASKED = (room, bare, is_closed)
-
-
-def texts(ring, *written):
-    return [read(ring, text) for text in written]
-
-
-def small_box(rng, many):
-    return [rng.randint(1, {1: 6, 2: 4, 3: 2, 4: 1}[many]) for _ in range(many)]
-
-
-def drawn_cases(seed, manys=(1, 2, 3), most=3):
-    rng = random.Random(seed)
-    for ring in rings(manys):
-        box = small_box(rng, ring.many)
-        told = drawn_row(rng, ring, rng.randint(0, most), 3, [min(2, bound + 1) for bound in box])
-        yield ring, told, box
 
 
 class Boxes(unittest.TestCase):

@@ -5,7 +5,8 @@ import unittest
 from fractions import Fraction
 
 from helper import (
-    added, assert_poly, drawn, drawn_number, loose_number, multiplied, refused_as_it_was, rings, tight, told_as_own)
+    added, assert_poly, drawn, drawn_number, loose_number, multiplied, refused_as_it_was, rings, texts, tight,
+    told_as_own)
 from idealroom.errors import NoOver, NoText
 from idealroom.fields import Fractions, Rests
 from idealroom.orders import Degrees, Order, Tails, Weights

@@ -6,7 +6,7 @@ from fractions import Fraction
 
 from helper import (
     any_base, assert_polys, divides, drawn, drawn_number, drawn_row, is_base_plainly, lead, loose_number, made_monic,
-    multiplied, rank, refused_as_it_was, rest_of, rings, thinned_plainly, tight, told_as_own)
+    multiplied, rank, refused_as_it_was, rest_of, rings, texts, thinned_plainly, tight, told_as_own)
 from idealroom.errors import NoBase
 from idealroom.fields import Fractions, Rests
 from idealroom.orders import Degrees, Order, Tails, Weights
@@ -16,10 +16,6 @@ from idealroom.thinning import thinned
 
 LETTERS = Ring(2, Fractions(), Order())
 DEGREES = Ring(2, Fractions(), Degrees())
-
-
-def texts(ring, *written):
-    return [read(ring, text) for text in written]
 
 
 def drawn_bases(seed, manys=(1, 2, 3)):

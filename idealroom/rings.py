@@ -1,6 +1,7 @@
 """Rings: how many unknowns there are, their field and the order of their terms."""
 
 from idealroom.errors import NoRing
+from idealroom.terms import alone
 
 LETTERS = "xyzt"
 
@@ -23,8 +24,7 @@ class Ring:
         return (0,) * self.many
 
     def unknown(self, at):
-        term = tuple([1 if place == at else 0 for place in range(self.many)])
-        return {term: self.field.one()}
+        return {alone(self.many, at, 1): self.field.one()}
 
     def constant(self, number):
         if number == self.field.nought():

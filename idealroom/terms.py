@@ -27,3 +27,8 @@ def stand_apart(one, other):
 
 def degree(term):
     return sum(term)
+
+
+def alone(many, at, power):
+    """The term of so many unknowns in which the one at the place has the power, and no other one has any."""
+    return tuple([power if place == at else 0 for place in range(many)])

@@ -2,6 +2,7 @@
 
 from idealroom.errors import NoText
 from idealroom.polys import absorb, times
+from idealroom.terms import alone
 
 MOST_SIGNS = 300
 MOST_DEPTH = 8
@@ -116,8 +117,7 @@ def factor_of(ring, factor):
     if factor[0] == "number":
         return ring.constant(ring.field.made(factor[1], factor[2]))
     if factor[0] == "power":
-        term = tuple([factor[2] if place == factor[1] else 0 for place in range(ring.many)])
-        return {term: ring.field.one()}
+        return {alone(ring.many, factor[1], factor[2]): ring.field.one()}
     return sum_of(ring, factor[1])
 
 

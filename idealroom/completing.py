@@ -17,7 +17,10 @@ def closed_bare(ring, told, box):
 
 def mixed(ring, factors, lists, many):
     """The sum of the factors times lists of so many multiples each, one list for each factor."""
-    return [summed(ring, factors, [multiples[at] for multiples in lists]) for at in range(many)]
+    found = []
+    for at in range(many):
+        found.append(summed(ring, factors, [multiples[at] for multiples in lists]))
+    return found
 
 
 def least_row(ring, lean, at, many):

@@ -17,9 +17,13 @@ def check_not_endless(ring, leads):
             raise Endless("no first term is a power of some unknown alone")
 
 
+def is_outside(leads, term):
+    """Whether no first term goes into the term."""
+    return not any([goes_into(lead, term) for lead in leads])
+
+
 def outside(leads, terms):
-    """Those of the terms that no first term goes into."""
-    return [term for term in terms if not any([goes_into(lead, term) for lead in leads])]
+    return [term for term in terms if is_outside(leads, term)]
 
 
 def steps_from(ring, terms):

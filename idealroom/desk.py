@@ -80,6 +80,7 @@ def all_shown(ring, polys):
 
 
 class Desk:
+    """Lines are told to it by said; what it keeps is changed only when a line is not refused."""
 
     def __init__(self):
         self.set_ring(Ring(2, Fractions(), Degrees()))

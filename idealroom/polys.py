@@ -76,8 +76,12 @@ def monic(ring, f):
     return scaled(ring, ring.field.turned(first_number(ring, f)), ring.unit(), f)
 
 
+def greatest_power(f, at):
+    return max([term[at] for term in f], default=0)
+
+
 def reach(ring, f):
-    return tuple([max([term[at] for term in f], default=0) for at in range(ring.many)])
+    return tuple([greatest_power(f, at) for at in range(ring.many)])
 
 
 def powers_of(field, number, greatest):

@@ -34,11 +34,13 @@ def terms_within(bounds):
 def shifts(ring, told, box):
     """The tuples (place, term) such that the term times the polynomial at the place is in the box.
 
-    A polynomial that is another one times a number is left out, for it brings nothing new.
+    A polynomial that is another one times a number is left out, for it brings nothing new. Those with few terms go
+    first: with them lesser numbers are reckoned with.
     """
     found = []
     seen = []
-    for at, f in enumerate(told):
+    for at in sorted(range(len(told)), key=lambda place: len(told[place])):
+        f = told[at]
         form = monic(ring, f)
         if f != {} and form not in seen:
             seen.append(form)
